@@ -1,0 +1,1 @@
+"""Dotread: a reading works, from dots to searched and corrected texts."""
