@@ -1,11 +1,12 @@
-"""Promise 0.3, as far as it speaks of dots and alphabets: what is handed in, what is told, and how it is called."""
+"""Promise 0.3: what is handed in, what is told, and how it is called."""
 
 import inspect
 import unittest
 
-from dotread import alphabets, dots
+from dotread import alphabets, dots, doubts, reading, words
 from dotread.alphabets import Alphabet, set_line
-from dotread.errors import NoLine, NoPicture, NoPlace, NoShape, NoSign
+from dotread.errors import NoLine, NoPicture, NoPlace, NoShape, NoSign, NoWord, TooMany
+from dotread.words import Lexicon
 from tests.things import Hostile, refusal
 
 FACE = ("#..#.", ".....", ".##.#")
@@ -18,7 +19,26 @@ CALLS = {
     dots.with_turned: "picture places", Alphabet: "high shapes", Alphabet.high: "self", Alphabet.shapes: "self",
     Alphabet.signs: "self", Alphabet.wide: "self number", Alphabet.with_shape: "self sign picture",
     Alphabet.without: "self number", set_line: "alphabet text * gap blank",
+    reading.fit: "alphabet line column number", reading.cost: "alphabet line reading", reading.read: "alphabet line",
+    reading.next_ones: "alphabet line k", reading.drawn: "alphabet wide reading",
+    words.text_of: "alphabet reading * blank", words.words_of: "alphabet reading * blank",
+    Lexicon: "words * strange blank", Lexicon.words: "self", Lexicon.has: "self word", Lexicon.with_word: "self word",
+    Lexicon.without_word: "self word", words.cost_by: "alphabet lexicon line reading",
+    words.read_by: "alphabet lexicon line", words.next_by: "alphabet lexicon line k",
+    doubts.without_window: "alphabet lexicon line column number",
+    doubts.with_window: "alphabet lexicon line column number", doubts.doubts: "alphabet lexicon line",
+    doubts.sure: "alphabet lexicon line least",
 }
+HOMES = {
+    dots: "is_picture size dots cut_out turned shifted pieces cleaned unlike with_turned", alphabets: "Alphabet set_line",
+    reading: "fit cost read next_ones drawn", words: "text_of words_of Lexicon cost_by read_by next_by",
+    doubts: "without_window with_window doubts sure",
+}
+METHODS = {
+    Alphabet: "high shapes signs wide with_shape without __eq__ __len__ __init__",
+    Lexicon: "words has with_word without_word __eq__ __init__",
+}
+LINE = ("#.#..", "#.###")
 
 
 class HandedIn(unittest.TestCase):
@@ -92,6 +112,17 @@ class HandedIn(unittest.TestCase):
             refusal(self, NoLine, set_line, alphabet, "ab", gap=truth)
             refusal(self, NoLine, set_line, alphabet, "ab", blank=truth)
 
+    def test_truths_are_no_numbers_of_readings(self):
+        alphabet = Alphabet(2, SHAPES)
+        for truth in (True, False):
+            self.assertIs(refusal(self, NoShape, reading.fit, alphabet, LINE, 0, truth).at, truth)
+            refusal(self, NoPlace, reading.fit, alphabet, LINE, truth, 0)
+            refusal(self, NoLine, reading.drawn, alphabet, truth, ())
+            self.assertEqual(refusal(self, TooMany, reading.next_ones, alphabet, LINE, truth).most, 20)
+            self.assertEqual(refusal(self, TooMany, words.text_of, alphabet, (), blank=truth).most, 20)
+            self.assertIs(refusal(self, NoWord, Lexicon, [], strange=truth).word, None)
+            self.assertIs(refusal(self, NoWord, Lexicon, [], blank=truth).word, None)
+
     def test_the_refusal_told_first(self):
         refusal(self, NoPicture, dots.unlike, None, ("#",))
         refusal(self, NoPicture, dots.unlike, ("##",), None)
@@ -126,18 +157,44 @@ class Called(unittest.TestCase):
         told = set_line(text="a b", alphabet=alphabet, blank=2, gap=0)
         self.assertEqual(told, set_line(alphabet, "a b", gap=0, blank=2))
 
+    def test_readings_by_name(self):
+        alphabet, lexicon = Alphabet(2, SHAPES), Lexicon(words=["ba"], blank=2, strange=1)
+        more = {"lexicon": lexicon, "line": LINE, "alphabet": alphabet}
+        first = ((0, 0), (2, 1))
+        self.assertEqual(reading.fit(number=1, column=2, line=LINE, alphabet=alphabet), 0)
+        self.assertEqual(reading.cost(reading=first, line=LINE, alphabet=alphabet), 0)
+        self.assertEqual(reading.read(line=LINE, alphabet=alphabet), (0, first))
+        self.assertEqual(reading.next_ones(k=1, line=LINE, alphabet=alphabet), [(0, first)])
+        self.assertEqual(reading.drawn(reading=first, wide=5, alphabet=alphabet), LINE)
+        self.assertEqual(words.text_of(blank=1, reading=first, alphabet=alphabet), "b a")
+        self.assertEqual(words.words_of(reading=first, alphabet=alphabet), [("ba", 0, 2)])
+        self.assertEqual(words.cost_by(reading=first, **more), 0)
+        self.assertEqual((words.read_by(**more), words.next_by(k=1, **more)), ((0, first), [(0, first)]))
+        self.assertEqual(doubts.with_window(column=2, number=1, **more), (0, first))
+        self.assertEqual(doubts.without_window(number=1, column=2, **more)[1], doubts.doubts(**more)[1][1])
+        self.assertEqual(doubts.sure(least=0, **more), "ba")
+        self.assertEqual(lexicon.with_word(word="a").without_word(word="ba").has(word="a"), True)
+
     def test_behind_a_star_by_name_alone(self):
         with self.assertRaises(TypeError):
             set_line(Alphabet(2, SHAPES), "ab", 1)
         with self.assertRaises(TypeError):
             set_line(Alphabet(2, SHAPES), "ab", 1, 3)
+        for call in (words.text_of, words.words_of):
+            with self.assertRaises(TypeError):
+                call(Alphabet(2, SHAPES), (), 3)
+        with self.assertRaises(TypeError):
+            Lexicon([], 2)
 
     def test_defined_where_they_are_listed(self):
-        for call in CALLS:
-            home = alphabets if call.__qualname__.startswith("Alphabet") or call is set_line else dots
-            self.assertEqual(call.__module__, home.__name__)
-        for name in ("high", "shapes", "signs", "wide", "with_shape", "without", "__eq__", "__len__", "__init__"):
-            self.assertIn(name, vars(Alphabet))
+        for home, names in HOMES.items():
+            for name in names.split():
+                self.assertEqual(vars(home)[name].__module__, home.__name__)
+        for kind, names in METHODS.items():
+            for name in names.split():
+                self.assertEqual(vars(kind)[name].__module__, kind.__module__)
+        listed = {vars(home)[name] for home, names in HOMES.items() for name in names.split()}
+        self.assertEqual(listed, {call for call in CALLS if "." not in call.__qualname__})
 
     def test_nothing_is_looked_into(self):
         self.assertIs(dots.is_picture(Hostile()), False)

@@ -1,0 +1,48 @@
+"""What a line costs by dots: each of its columns where it is white, and each window that may stand on it."""
+
+
+def white_costs(line):
+    """Tell for each column how many dots stand in it."""
+    return [column.count("#") for column in _columns(line)]
+
+
+def window_costs(alphabet, line):
+    """Tell for each column the list of (window, wide, cost) of all windows that begin there, within the line."""
+    counts = _dot_counts(alphabet.high())
+    drawn = _column_numbers(line)
+    shapes = [_column_numbers(picture) for _, picture in alphabet.shapes()]
+    return [_windows_at(column, drawn, shapes, counts) for column in range(len(drawn))]
+
+
+def _windows_at(column, drawn, shapes, counts):
+    windows = []
+    for number, shape in enumerate(shapes):
+        behind = column + len(shape)
+        if behind <= len(drawn):
+            cost = sum([counts[one ^ other] for one, other in zip(shape, drawn[column:behind])])
+            windows.append(((column, number), len(shape), cost))
+    return windows
+
+
+def _columns(picture):
+    return ["".join(signs) for signs in zip(*picture)]
+
+
+def _column_numbers(picture):
+    """Tell each column as a number of which each bit is a place: two are then compared at once."""
+    return [_number_of(column) for column in _columns(picture)]
+
+
+def _number_of(column):
+    number = 0
+    for sign in column:
+        number = number * 2 + (1 if sign == "#" else 0)
+    return number
+
+
+def _dot_counts(high):
+    """Tell for each such number of so many places how many dots it has."""
+    counts = [0]
+    for _ in range(high):
+        counts = counts + [dots + 1 for dots in counts]
+    return counts
