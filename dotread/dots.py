@@ -68,8 +68,12 @@ def turned(picture, times):
 
 
 def _turned_once(rows):
-    upwards = rows[::-1]
-    return tuple(["".join(column) for column in zip(*upwards)])
+    return tuple(columns_of(rows[::-1]))
+
+
+def columns_of(rows):
+    """Tell the list of the columns of texts of one length, each from above."""
+    return ["".join(signs) for signs in zip(*rows)]
 
 
 def shifted(picture, steps):

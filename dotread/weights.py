@@ -1,16 +1,18 @@
 """What a line costs by dots: each of its columns where it is white, and each window that may stand on it."""
 
+from dotread.dots import columns_of
+
 
 def white_costs(line):
     """Tell for each column how many dots stand in it."""
-    return [column.count("#") for column in _columns(line)]
+    return [column.count("#") for column in columns_of(line)]
 
 
 def window_costs(alphabet, line):
     """Tell for each column the list of (window, wide, cost) of all windows that begin there, within the line."""
-    counts = _dot_counts(alphabet.high())
-    drawn = _column_numbers(line)
-    shapes = [_column_numbers(picture) for _, picture in alphabet.shapes()]
+    counts = dot_counts(alphabet.high())
+    drawn = column_numbers(line)
+    shapes = [column_numbers(picture) for _, picture in alphabet.shapes()]
     return [_windows_at(column, drawn, shapes, counts) for column in range(len(drawn))]
 
 
@@ -24,13 +26,9 @@ def _windows_at(column, drawn, shapes, counts):
     return windows
 
 
-def _columns(picture):
-    return ["".join(signs) for signs in zip(*picture)]
-
-
-def _column_numbers(picture):
+def column_numbers(picture):
     """Tell each column as a number of which each bit is a place: two are then compared at once."""
-    return [_number_of(column) for column in _columns(picture)]
+    return [_number_of(column) for column in columns_of(picture)]
 
 
 def _number_of(column):
@@ -40,7 +38,7 @@ def _number_of(column):
     return number
 
 
-def _dot_counts(high):
+def dot_counts(high):
     """Tell for each such number of so many places how many dots it has."""
     counts = [0]
     for _ in range(high):

@@ -3,9 +3,9 @@
 import inspect
 import unittest
 
-from dotread import alphabets, dots, doubts, reading, words
+from dotread import alphabets, dots, doubts, fields, parting, reading, tables, words
 from dotread.alphabets import Alphabet, set_line
-from dotread.errors import NoLine, NoPicture, NoPlace, NoShape, NoSign, NoWord, TooMany
+from dotread.errors import NoLine, NoPicture, NoPlace, NoShape, NoSign, NoTable, NoWord, TooMany
 from dotread.words import Lexicon
 from tests.things import Hostile, refusal
 
@@ -27,12 +27,16 @@ CALLS = {
     words.read_by: "alphabet lexicon line", words.next_by: "alphabet lexicon line k",
     doubts.without_window: "alphabet lexicon line column number",
     doubts.with_window: "alphabet lexicon line column number", doubts.doubts: "alphabet lexicon line",
-    doubts.sure: "alphabet lexicon line least",
+    doubts.sure: "alphabet lexicon line least", parting.parting: "alphabet most", parting.safe: "alphabet most",
+    fields.fields: "picture * rows columns", fields.lines_of: "picture box * high pitch above",
+    fields.line_at: "picture box * high over", tables.cells: "picture * least",
+    tables.ruled: "heights widths spans * least", tables.filled: "picture at part * least",
 }
 HOMES = {
     dots: "is_picture size dots cut_out turned shifted pieces cleaned unlike with_turned", alphabets: "Alphabet set_line",
     reading: "fit cost read next_ones drawn", words: "text_of words_of Lexicon cost_by read_by next_by",
-    doubts: "without_window with_window doubts sure",
+    doubts: "without_window with_window doubts sure", parting: "parting safe", fields: "fields lines_of line_at",
+    tables: "cells ruled filled",
 }
 METHODS = {
     Alphabet: "high shapes signs wide with_shape without __eq__ __len__ __init__",
@@ -123,6 +127,23 @@ class HandedIn(unittest.TestCase):
             self.assertIs(refusal(self, NoWord, Lexicon, [], strange=truth).word, None)
             self.assertIs(refusal(self, NoWord, Lexicon, [], blank=truth).word, None)
 
+    def test_truths_are_no_numbers_of_pages(self):
+        table = tables.ruled([3], [3], [], least=3)
+        for truth in (True, False):
+            for call, rest, more in (
+                    (parting.parting, (Alphabet(2, SHAPES), truth), {}), (parting.safe, (Alphabet(2, SHAPES), truth), {}),
+                    (fields.fields, (FACE,), {"rows": truth}), (fields.fields, (FACE,), {"columns": truth}),
+                    (fields.lines_of, (FACE, (0, 0, 1, 1)), {"high": truth, "pitch": 1}),
+                    (fields.lines_of, (FACE, (0, 0, 1, 1)), {"high": 1, "pitch": truth}),
+                    (fields.lines_of, (FACE, (0, 0, 1, 1)), {"high": 2, "pitch": 2, "above": truth})):
+                self.assertEqual(refusal(self, TooMany, call, *rest, **more).most, 60)
+            refusal(self, NoLine, fields.line_at, FACE, (0, 0, 1, 1), high=truth)
+            refusal(self, NoLine, fields.line_at, FACE, (0, 0, 1, 1), high=3, over=truth)
+            self.assertEqual(refusal(self, TooMany, tables.cells, table, least=truth).most, 30)
+            refusal(self, NoTable, tables.ruled, [3, truth], [3], [], least=3)
+            refusal(self, NoTable, tables.ruled, [3], [3], [(0, 0, 1, truth)], least=3)
+            refusal(self, NoPlace, tables.filled, table, truth, ("#",), least=3)
+
     def test_the_refusal_told_first(self):
         refusal(self, NoPicture, dots.unlike, None, ("#",))
         refusal(self, NoPicture, dots.unlike, ("##",), None)
@@ -174,6 +195,18 @@ class Called(unittest.TestCase):
         self.assertEqual(doubts.without_window(number=1, column=2, **more)[1], doubts.doubts(**more)[1][1])
         self.assertEqual(doubts.sure(least=0, **more), "ba")
         self.assertEqual(lexicon.with_word(word="a").without_word(word="ba").has(word="a"), True)
+
+    def test_pages_by_name(self):
+        alphabet = Alphabet(2, SHAPES)
+        self.assertEqual(parting.parting(most=3, alphabet=alphabet), parting.parting(alphabet, 3))
+        self.assertEqual(parting.safe(most=3, alphabet=alphabet), parting.safe(alphabet, 3))
+        self.assertEqual(fields.fields(columns=1, rows=1, picture=FACE), fields.fields(FACE, rows=1, columns=1))
+        told = fields.lines_of(above=0, pitch=2, high=1, box=(0, 0, 3, 5), picture=FACE)
+        self.assertEqual(told, [(0, 0, 1, 5), (2, 0, 1, 5)])
+        self.assertEqual(fields.line_at(over=1, high=4, box=(0, 0, 3, 5), picture=FACE), (".....", *FACE))
+        table = tables.ruled(least=4, spans=(), widths=(4,), heights=(4,))
+        self.assertEqual(tables.cells(least=4, picture=table), [(0, 0, 1, 1, (1, 1, 4, 4))])
+        self.assertEqual(tables.filled(least=4, part=("#",), at=0, picture=table)[2], "#.#..#")
 
     def test_behind_a_star_by_name_alone(self):
         with self.assertRaises(TypeError):
