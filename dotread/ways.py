@@ -1,11 +1,15 @@
-"""All readings of a line weighed at once: each is a way from its first column to behind its last one."""
+"""All readings of a line weighed at once: each is a way from its first column to behind its last one.
+
+A way costs what it costs more than a line that is left white: white columns are free, most windows cost less than 0.
+"""
 
 from heapq import heappop, heappush
 
-from dotread.weights import white_costs, window_costs
+from dotread.weights import white_cost, window_costs
 
-# No reading costs as much: a line has at most 540 dots, and 60 strange words of 99.
-NO_WAY = (1000000, ())
+# Greater than what any reading costs: a line has at most 540 dots, and 60 strange words of 99.
+FAR = 1000000
+NO_WAY = (FAR, ())
 
 
 class Ways:
@@ -13,64 +17,80 @@ class Ways:
 
     def __init__(self, alphabet, line, spelling):
         self.spelling = spelling
-        self.whites = white_costs(line)
+        self.white = white_cost(line)
         self.windows = window_costs(alphabet, line)
         # By the column, then by the state: the first of all that may follow, a pair (cost, windows).
         self.rest = self._weighed()
 
     def _weighed(self):
-        columns = len(self.whites)
+        columns = len(self.windows)
         rest = [[(0, ()) for _ in self.spelling.beginnings] for _ in range(columns + 1)]
         for column in reversed(range(columns)):
-            rest[column] = self._weighed_at(column, rest)
+            white = rest[column + 1]
+            # Whichever window is set, no matter how many white columns stand ahead of it: so by the beginning alone.
+            begun = self._first_windows(column, rest)
+            spelling = self.spelling
+            rest[column] = [min(white[behind], begun[at])
+                            for behind, at in zip(spelling.behind_white, spelling.beginnings)]
         return rest
 
-    def _weighed_at(self, column, rest):
-        dots = self.whites[column]
-        white = [(cost + dots, windows) for cost, windows in rest[column + 1]]
-        # Whichever window is set, no matter how many white columns stand ahead of it: so by the beginning alone.
-        begun = [self._first_window(column, steps, rest) for steps in self.spelling.behind_shape]
-        spelling = self.spelling
-        return [min(white[behind], begun[at]) for behind, at in zip(spelling.behind_white, spelling.beginnings)]
+    def _first_windows(self, column, rest):
+        """Tell for each beginning the first of all ways that go on with a window at this column."""
+        here = {window[1]: (window, wide, more) for window, wide, more in self.windows[column]}
+        state = self.spelling.strange_state
+        strange = sorted([set_ahead(window, more, rest[column + wide][state])
+                          for window, wide, more in self.windows[column]])
+        return [self._first_window(at, here, strange, rest) for at in range(len(self.spelling.known))]
 
-    def _first_window(self, column, steps, rest):
+    def _first_window(self, at, here, strange, rest):
+        known = self.spelling.known[at]
         first = NO_WAY
-        for window, wide, dots in self.windows[column]:
-            state, price = steps[window[1]]
-            more, windows = rest[column + wide][state]
-            cost = dots + price + more
-            # The windows rise, so of two that cost as much the first one is the one looked at first.
-            if cost < first[0]:
-                first = (cost, (window,) + windows)
+        for cost, windows in strange:
+            if windows[0][1] not in known:
+                first = (cost + self.spelling.strange_prices[at], windows)
+                break
+        for number, (state, price) in known.items():
+            if number in here:
+                window, wide, more = here[number]
+                first = min(first, set_ahead(window, more + price, rest[window[0] + wide][state]))
         return first
 
     def first(self):
         """Tell the first of all readings, a pair (cost, reading)."""
-        return self.rest[0][0]
+        return self.told(self.rest[0][0])
+
+    def told(self, way):
+        """Tell the pair (cost, reading) of a way from end to end."""
+        cost, windows = way
+        return self.white + cost, windows
 
     def first_ones(self, many):
         """Tell the list of the first so many of all readings, fewer where there are no more."""
         found = []
         queue = [self._branch(0, 0, 0, ())]
         while queue and len(found) < many:
-            cost, reading, column, state, paid, begun = heappop(queue)
-            if column == len(self.whites):
-                found.append((cost, reading))
+            cost, windows, column, state, paid, begun = heappop(queue)
+            if column == len(self.windows):
+                found.append(self.told((cost, windows)))
                 continue
             for branch in self._branches(column, state, paid, begun):
                 heappush(queue, branch)
         return found
 
     def _branches(self, column, state, paid, begun):
-        white = self.spelling.behind_white[state]
-        branches = [self._branch(column + 1, white, paid + self.whites[column], begun)]
-        steps = self.spelling.behind_shape[self.spelling.beginnings[state]]
-        for window, wide, dots in self.windows[column]:
-            behind, price = steps[window[1]]
-            branches.append(self._branch(column + wide, behind, paid + dots + price, begun + (window,)))
+        branches = [self._branch(column + 1, self.spelling.behind_white[state], paid, begun)]
+        for window, wide, more in self.windows[column]:
+            behind, price = self.spelling.step(self.spelling.beginnings[state], window[1])
+            branches.append(self._branch(column + wide, behind, paid + more + price, begun + (window,)))
         return branches
 
     def _branch(self, column, state, paid, begun):
         # It stands in the queue for all readings that begin so, by the first of them: that one is then found next.
         more, windows = self.rest[column][state]
         return paid + more, begun + windows, column, state, paid, begun
+
+
+def set_ahead(window, more, way):
+    """Tell the way on which a window that costs so much is set ahead of another way."""
+    cost, windows = way
+    return more + cost, (window,) + windows

@@ -1,15 +1,18 @@
-"""What a line costs by dots: each of its columns where it is white, and each window that may stand on it."""
+"""What a line costs by dots: where it is left white, and how much more or less by each window on it."""
 
 from dotread.dots import columns_of
 
 
-def white_costs(line):
-    """Tell for each column how many dots stand in it."""
-    return [column.count("#") for column in columns_of(line)]
+def white_cost(line):
+    """Tell what the line costs where no window is set: its dots."""
+    return sum([row.count("#") for row in line])
 
 
 def window_costs(alphabet, line):
-    """Tell for each column the list of (window, wide, cost) of all windows that begin there, within the line."""
+    """Tell for each column the list of (window, wide, more) of all windows that begin there, within the line.
+
+    More is what the line costs more by this window than white there, below 0 where it costs less.
+    """
     counts = dot_counts(alphabet.high())
     drawn = column_numbers(line)
     shapes = [column_numbers(picture) for _, picture in alphabet.shapes()]
@@ -21,8 +24,8 @@ def _windows_at(column, drawn, shapes, counts):
     for number, shape in enumerate(shapes):
         behind = column + len(shape)
         if behind <= len(drawn):
-            cost = sum([counts[one ^ other] for one, other in zip(shape, drawn[column:behind])])
-            windows.append(((column, number), len(shape), cost))
+            more = sum([counts[one ^ other] - counts[other] for one, other in zip(shape, drawn[column:behind])])
+            windows.append(((column, number), len(shape), more))
     return windows
 
 

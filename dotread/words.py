@@ -47,7 +47,7 @@ class Lexicon:
         for at, word in enumerate(words):
             if at == MOST_WORDS:
                 raise NoWord(None)
-            if not _is_word(word) or word in words[:at]:
+            if not is_word(word) or word in words[:at]:
                 raise NoWord(word)
         if not is_between(strange, 0, MOST_STRANGE) or not is_between(blank, 1, MOST_BLANK):
             raise NoWord(None)
@@ -78,7 +78,8 @@ class Lexicon:
                 and self.strange == other.strange and self.blank == other.blank)
 
 
-def _is_word(thing):
+def is_word(thing):
+    """Tell whether a thing, of any kind, is a text of 1 to 8 signs."""
     return is_text(thing) and 1 <= len(thing) <= MOST_SIGNS and all([is_sign(sign) for sign in thing])
 
 
@@ -104,4 +105,9 @@ def next_by(alphabet, lexicon, line, k):
 
 def ways_by(alphabet, lexicon, line):
     """Tell the ways through what is a line, by dots and by words."""
-    return Ways(alphabet, line, Spelling(alphabet, lexicon.words(), lexicon.strange, lexicon.blank))
+    return Ways(alphabet, line, spelling_by(alphabet, lexicon))
+
+
+def spelling_by(alphabet, lexicon):
+    """Tell what the words of a lexicon cost, spelled with the signs of an alphabet."""
+    return Spelling(alphabet, lexicon.words(), lexicon.strange, lexicon.blank)

@@ -3,10 +3,12 @@
 import inspect
 import unittest
 
-from dotread import alphabets, dots, doubts, fields, parting, reading, tables, words
+from dotread import alphabets, desk, dots, doubts, fields, parting, reading, searching, tables, texts, words, works
 from dotread.alphabets import Alphabet, set_line
+from dotread.desk import Desk
 from dotread.errors import NoLine, NoPicture, NoPlace, NoShape, NoSign, NoTable, NoWord, TooMany
 from dotread.words import Lexicon
+from dotread.works import Works
 from tests.things import Hostile, refusal
 
 FACE = ("#..#.", ".....", ".##.#")
@@ -31,16 +33,29 @@ CALLS = {
     fields.fields: "picture * rows columns", fields.lines_of: "picture box * high pitch above",
     fields.line_at: "picture box * high over", tables.cells: "picture * least",
     tables.ruled: "heights widths spans * least", tables.filled: "picture at part * least",
+    searching.places: "alphabet lexicon line pattern * within", searching.best_as: "alphabet lexicon line text",
+    Works: "alphabet lexicon", Works.lay: "self name lines", Works.gone: "self name",
+    Works.teach: "self name at column wide sign", Works.forget: "self number", Works.learn: "self word",
+    Works.unlearn: "self word", Works.back: "self", Works.together: "self deeds", Works.alphabet: "self",
+    Works.lexicon: "self", Works.pages: "self", Works.reading: "self name at", Works.text: "self name",
+    Works.search: "self pattern * within", Works.doubtful: "self least", Works.log: "self", Works.twin: "self",
+    works.works_of: "alphabet lexicon log", texts.alphabet_text: "alphabet", texts.picture_text: "picture",
+    texts.places_text: "alphabet line reading", texts.read_alphabet: "text", texts.read_picture: "text",
+    texts.read_places: "text", Desk: "alphabet lexicon", Desk.answer: "self row",
 }
 HOMES = {
     dots: "is_picture size dots cut_out turned shifted pieces cleaned unlike with_turned", alphabets: "Alphabet set_line",
     reading: "fit cost read next_ones drawn", words: "text_of words_of Lexicon cost_by read_by next_by",
     doubts: "without_window with_window doubts sure", parting: "parting safe", fields: "fields lines_of line_at",
-    tables: "cells ruled filled",
+    tables: "cells ruled filled", searching: "places best_as", works: "Works works_of", desk: "Desk",
+    texts: "alphabet_text picture_text places_text read_alphabet read_picture read_places",
 }
 METHODS = {
     Alphabet: "high shapes signs wide with_shape without __eq__ __len__ __init__",
     Lexicon: "words has with_word without_word __eq__ __init__",
+    Works: "lay gone teach forget learn unlearn back together alphabet lexicon pages reading text search doubtful log twin "
+           "__init__",
+    Desk: "answer __init__",
 }
 LINE = ("#.#..", "#.###")
 
@@ -67,6 +82,22 @@ class HandedIn(unittest.TestCase):
         self.assertEqual((alphabet.high(), alphabet.shapes(), len(alphabet)), (2, SHAPES, 2))
         self.assertEqual(longer.shapes(), [*SHAPES, ("c", ("##", ".."))])
         self.assertEqual(alphabet, Alphabet(2, SHAPES))
+
+    def test_what_is_told_of_lines_is_new(self):
+        alphabet, lexicon = Alphabet(2, SHAPES), Lexicon(["ba"])
+        page = (LINE[0] + "....#", LINE[1] + "....#")
+        table = tables.ruled([3, 4], [5, 6], [(0, 0, 1, 2)], least=3)
+        for tell in (lambda: reading.next_ones(alphabet, LINE, 3), lambda: words.next_by(alphabet, lexicon, LINE, 3),
+                     lambda: words.words_of(alphabet, ((0, 0),)), lexicon.words, lambda: fields.fields(page),
+                     lambda: doubts.doubts(alphabet, lexicon, LINE), lambda: tables.cells(table, least=3),
+                     lambda: fields.lines_of(page, (0, 0, 2, 10), high=2, pitch=2),
+                     lambda: searching.places(alphabet, lexicon, LINE, "ba"), lambda: texts.read_places("0 1 0 a\n")):
+            first = tell()
+            kept = list(first)
+            self.assertTrue(kept)
+            self.assertIsNot(tell(), first)
+            first.clear()
+            self.assertEqual(tell(), kept)
 
     def test_told_lists_are_new_ones(self):
         alphabet = Alphabet(2, SHAPES)
@@ -143,6 +174,21 @@ class HandedIn(unittest.TestCase):
             refusal(self, NoTable, tables.ruled, [3, truth], [3], [], least=3)
             refusal(self, NoTable, tables.ruled, [3], [3], [(0, 0, 1, truth)], least=3)
             refusal(self, NoPlace, tables.filled, table, truth, ("#",), least=3)
+
+    def test_truths_are_no_numbers_of_works(self):
+        lexicon = Lexicon(["ba"])
+        stand = Works(Alphabet(2, SHAPES), lexicon)
+        stand.lay("a", [LINE])
+        for truth in (True, False):
+            found = refusal(self, TooMany, searching.places, stand.alphabet(), lexicon, LINE, "a", within=truth)
+            self.assertEqual(found.most, 99)
+            self.assertEqual(refusal(self, TooMany, stand.search, "a", within=truth).most, 99)
+            refusal(self, NoLine, stand.reading, "a", truth)
+            refusal(self, NoLine, stand.teach, "a", truth, 0, 1, "x")
+            refusal(self, NoPlace, stand.teach, "a", 0, truth, 1, "x")
+            refusal(self, NoPlace, stand.teach, "a", 0, 0, truth, "x")
+            self.assertIs(refusal(self, NoShape, stand.forget, truth).at, truth)
+        self.assertEqual(len(stand.log()), 1)
 
     def test_the_refusal_told_first(self):
         refusal(self, NoPicture, dots.unlike, None, ("#",))
