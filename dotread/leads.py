@@ -31,31 +31,22 @@ class Leads:
 
     def _end_at(self, column):
         arrived = [self.ahead[column][first] for first, _ in self._states]
-        over = [(cost, windows[:-1]) for cost, windows in arrived if cost < FAR]
-        self.over.append(min(self.over[-1:] + over))
+        self.over.append(min(self.over[-1:] + [(cost, windows[:-1]) for cost, windows in arrived]))
 
     def _go_on_from(self, column):
         here = self.ahead[column]
         _keep_first(self.ahead[column + 1], list(zip(self._spelling.behind_white, here)))
         # What follows a window is the same however many white columns stand ahead of it.
         firsts = [min(here[first:behind]) for first, behind in self._states]
+        # A beginning of a known word is taken for a strange one here, too: that costs no less than what it is.
         prices = self._spelling.strange_prices
-        strange = sorted([(cost + prices[at], windows, at) for at, (cost, windows) in enumerate(firsts) if cost < FAR])
+        strange = min([(cost + price, windows) for (cost, windows), price in zip(firsts, prices)])
         for window, wide, more in self._ways.windows[column]:
-            self.ending[window] = self._ending_with(window, more, firsts, strange)
-            _keep_first(self.ahead[column + wide], self.ending[window])
-
-    def _ending_with(self, window, more, firsts, strange):
-        number = window[1]
-        found = []
-        for cost, windows, at in strange:
-            if number not in self._spelling.known[at]:
-                found.append((self._spelling.strange_state, _set_behind((cost, windows), window, more)))
-                break
-        for at, state, price in self._grown.get(number, []):
-            if firsts[at][0] < FAR:
-                found.append((state, _set_behind(firsts[at], window, more + price)))
-        return found
+            leads = [(self._spelling.strange_state, _set_behind(strange, window, more))]
+            for at, state, price in self._grown.get(window[1], []):
+                leads.append((state, _set_behind(firsts[at], window, more + price)))
+            self.ending[window] = leads
+            _keep_first(self.ahead[column + wide], leads)
 
 
 def _grown_by(known):

@@ -44,7 +44,8 @@ def want_within(thing):
 def _fitting_words(alphabet, lexicon, ways, pattern):
     """Tell by the column the first of all ways that begin there with a window of a whole word that fits."""
     between = [rest[0] for rest in ways.rest]
-    over = _behind_word(between, lexicon.blank)
+    # Behind the last word of a line there may be fewer white columns than a blank.
+    over = _behind_blank(between, lexicon.blank, (0, ()))
     # Known words are weighed here as strange, too: for each there is the same way by itself that costs no more.
     kinds = [(_fitting_shapes(alphabet, pattern), lexicon.strange)]
     for word in lexicon.words():
@@ -90,11 +91,9 @@ def _first_of(windows, numbers, behind):
     return min([NO_WAY] + set_here)
 
 
-def _behind_word(between, blank):
-    """Tell by the column what may follow a word that ends ahead of it, where other words may begin so and so."""
-    last = len(between) - 1
-    # Where no blank is left there is but white behind the word.
-    return [between[column + blank] if column + blank <= last else (0, ()) for column in range(len(between))]
+def _behind_blank(begun, blank, at_end):
+    """Tell by the column what may follow there behind a blank; at_end is what may where no blank is left."""
+    return begun[blank:] + [at_end] * blank
 
 
 def best_as(alphabet, lexicon, line, text):
@@ -110,16 +109,12 @@ def best_as(alphabet, lexicon, line, text):
     for word in reversed(words):
         begun = _words_begun(ways, _shapes_of(alphabet, word), lexicon.blank, over)
         begun = [min(begun[column:]) for column in range(len(begun))]
-        over = _behind_another_word(begun, lexicon.blank)
+        over = _behind_blank(begun, lexicon.blank, NO_WAY)
     cost, windows = begun[0]
     if cost >= FAR // 2:
         return None
     strange = len([word for word in words if not lexicon.has(word)]) * lexicon.strange
     return ways.told((cost + strange, windows))
-
-
-def _behind_another_word(begun, blank):
-    return begun[blank:] + [NO_WAY for _ in range(min(blank, len(begun)))]
 
 
 def _words_in(text):

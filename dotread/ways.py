@@ -36,24 +36,13 @@ class Ways:
 
     def _first_windows(self, column, rest):
         """Tell for each beginning the first of all ways that go on with a window at this column."""
-        here = {window[1]: (window, wide, more) for window, wide, more in self.windows[column]}
-        state = self.spelling.strange_state
-        strange = sorted([set_ahead(window, more, rest[column + wide][state])
-                          for window, wide, more in self.windows[column]])
-        return [self._first_window(at, here, strange, rest) for at in range(len(self.spelling.known))]
-
-    def _first_window(self, at, here, strange, rest):
-        known = self.spelling.known[at]
-        first = NO_WAY
-        for cost, windows in strange:
-            if windows[0][1] not in known:
-                first = (cost + self.spelling.strange_prices[at], windows)
-                break
-        for number, (state, price) in known.items():
-            if number in here:
-                window, wide, more = here[number]
-                first = min(first, set_ahead(window, more + price, rest[window[0] + wide][state]))
-        return first
+        spelling = self.spelling
+        here = {window[1]: (window, more, rest[column + wide]) for window, wide, more in self.windows[column]}
+        # A beginning of a known word is taken for a strange one here, too: that costs no less than what it is.
+        strange = [set_ahead(window, more, behind[spelling.strange_state]) for window, more, behind in here.values()]
+        cost, windows = min([NO_WAY] + strange)
+        return [min([(cost + price, windows)] + _known_windows(known, here))
+                for known, price in zip(spelling.known, spelling.strange_prices)]
 
     def first(self):
         """Tell the first of all readings, a pair (cost, reading)."""
@@ -88,6 +77,15 @@ class Ways:
         # It stands in the queue for all readings that begin so, by the first of them: that one is then found next.
         more, windows = self.rest[column][state]
         return paid + more, begun + windows, column, state, paid, begun
+
+
+def _known_windows(known, here):
+    found = []
+    for number, (state, price) in known.items():
+        if number in here:
+            window, more, behind = here[number]
+            found.append(set_ahead(window, more + price, behind[state]))
+    return found
 
 
 def set_ahead(window, more, way):
