@@ -38,7 +38,7 @@ class Leads:
         _keep_first(self.ahead[column + 1], list(zip(self._spelling.behind_white, here)))
         # What follows a window is the same however many white columns stand ahead of it.
         firsts = [min(here[first:behind]) for first, behind in self._states]
-        # A beginning of a known word is taken for a strange one here, too: that costs no less than what it is.
+        # The beginning of a known word is taken for a strange one, too: no reading is made cheaper by that.
         prices = self._spelling.strange_prices
         strange = min([(cost + price, windows) for (cost, windows), price in zip(firsts, prices)])
         for window, wide, more in self._ways.windows[column]:

@@ -38,7 +38,7 @@ class Ways:
         """Tell for each beginning the first of all ways that go on with a window at this column."""
         spelling = self.spelling
         here = {window[1]: (window, more, rest[column + wide]) for window, wide, more in self.windows[column]}
-        # A beginning of a known word is taken for a strange one here, too: that costs no less than what it is.
+        # The beginning of a known word is taken for a strange one, too: no reading is made cheaper by that.
         strange = [set_ahead(window, more, behind[spelling.strange_state]) for window, more, behind in here.values()]
         cost, windows = min([NO_WAY] + strange)
         return [min([(cost + price, windows)] + _known_windows(known, here))
