@@ -1,6 +1,6 @@
 """A desk: a works that is led by rows of text and answers each by one."""
 
-from dotread.errors import DotError
+from dotread.errors import NoBack, NoLine, NoPlace, NoShape, NoSign, NoWord, TooMany
 from dotread.figures import number_in
 from dotread.kinds import is_text
 from dotread.works import Works
@@ -108,8 +108,20 @@ class Desk:
         tell = ANSWERS[word]
         try:
             return tell(self._works, *handed)
-        except DotError as error:
-            return "no " + type(error).__name__.lower()
+        except NoWord:
+            return "no noword"
+        except NoLine:
+            return "no noline"
+        except NoPlace:
+            return "no noplace"
+        except NoSign:
+            return "no nosign"
+        except NoShape:
+            return "no noshape"
+        except NoBack:
+            return "no noback"
+        except TooMany:
+            return "no toomany"
 
 
 def _handed(words):
